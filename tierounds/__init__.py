@@ -1,0 +1,1 @@
+"""Tierounds: rounds that go over all one-way ties of a web once."""
