@@ -44,6 +44,24 @@ def strangers():
     ]
 
 
+def no_webs():
+    """Things that are close to webs and are none."""
+    return [
+        (0, []), (8, []), (-1, []), (-7, []), (10 ** 39, []), (True, []), (False, []), (None, []), ("1", []),
+        (b"1", []), ([1], []), ((1,), []),
+        (1, ()), (1, ((0, 0),)), (1, None), (1, {}), (1, {(0, 0): 1}), (1, ""), (1, 0), (1, set()), (1, {(0, 0)}),
+        [1, []], [1, [(0, 0)]], (1,), ([],), (1, [], []), (1, [], None), ([], 1), {0: 1, 1: []}, {1: [], 2: []},
+        (1, [(0, 0)] * 21), (7, [(0, 6)] * 21), (1, [(0, 0)] * 40), (8, [(0, 7)]),
+        (1, [(0, 1)]), (1, [(1, 0)]), (2, [(0, 2)]), (2, [(2, 0)]), (7, [(0, 7)]), (7, [(7, 0)]), (2, [(0, -1)]),
+        (2, [(-1, 0)]), (2, [(0, 1), (1, 2)]), (2, [(0, 1)] * 19 + [(0, 2)]), (2, [(0, 10 ** 39)]),
+        (2, [(0, True)]), (2, [(True, 0)]), (2, [(False, 1)]), (2, [(1, False)]), (2, [(0, 1), (True, False)]),
+        (2, [[0, 1]]), (2, [(0, 1), [1, 0]]), (2, [()]), (2, [(0,)]), (2, [(0, 1, 1)]), (2, [(0, 1), (0, 1, 0)]),
+        (2, [None]), (2, ["01"]), (2, [b"\x00\x01"]), (2, [{0: 1, 1: 0}]), (2, [{0, 1}]), (2, [0, 1]), (2, [3]),
+        (2, [("0", "1")]), (2, [(None, 0)]), (2, [(0, None)]), (2, [((0,), 1)]), (2, [(0, [1])]), (2, [(b"0", 1)]),
+        (2, [(0, {})]), (1, [[(0, 0)]]),
+    ]
+
+
 def refused(test, kind, function, *arguments):
     """Check that the call is refused by just this kind of error and by none of the others."""
     with test.assertRaises(errors.TieError) as caught:
@@ -65,6 +83,57 @@ def all_rounds(web):
         if all(ties[one][1] == ties[other][0] for one, other in zip(tour, follow)):
             rounds.append(tour)
     return sorted(rounds)
+
+
+def used(web):
+    """The places where a tie begins or ends, rising."""
+    return sorted({end for tie in web[1] for end in tie})
+
+
+def beginnings(web):
+    """All beginnings, sorted, whether or not a round begins so: walked from each to those a tie longer."""
+    ties = web[1]
+    found = [[]]
+    newest = [[0]] if ties else []
+    while newest:
+        found += newest
+        newest = [
+            begin + [number] for begin in newest for number, tie in enumerate(ties)
+            if tie[0] == ties[begin[-1]][1] and number not in begin]
+    return sorted(found)
+
+
+def rounds_walked(web):
+    """All rounds, sorted, for webs of more ties than all_rounds has time for, but few rounds."""
+    many = len(web[1])
+    whole = [begin for begin in beginnings(web) if len(begin) == many]
+    return [tour for tour in whole if not tour or web[1][tour[-1]][1] == web[1][0][0]]
+
+
+def is_tree_by_words(web, root, numbers):
+    """By the words of [8], of a list of ties' numbers that rises."""
+    chosen = [web[1][number] for number in numbers]
+    for place in range(web[0]):
+        wanted = 1 if place in used(web) and place != root else 0
+        if len([tie for tie in chosen if tie[0] == place]) != wanted:
+            return False
+    come = {root}
+    for _ in range(7):
+        come |= {a for a, b in chosen if b in come}
+    return all(place in come for place in used(web))
+
+
+def choices_of_ties(web):
+    """All rising lists of ties' numbers."""
+    many = len(web[1])
+    return [list(numbers) for size in range(many + 1) for numbers in itertools.combinations(range(many), size)]
+
+
+def trees_listed(web, root):
+    """All trees, sorted: each choice of one tie from each used place but the root is tried."""
+    leading = [[k for k, tie in enumerate(web[1]) if tie[0] == place] for place in used(web) if place != root]
+    choices = [sorted(choice) for choice in itertools.product(*leading)]
+    return sorted(choice for choice in choices if is_tree_by_words(web, root, choice))
 
 
 def webs_of(n, many):
@@ -106,6 +175,18 @@ def mixed_webs(seed, how_many, most_ties):
             ties = low + high
             chance.shuffle(ties)
         yield (n, ties)
+
+
+def any_webs(seed, how_many, most_ties):
+    """Webs of any ties, mostly without a round, the same for the same seed; one place may be kept unused."""
+    chance = random.Random(seed)
+    for _ in range(how_many):
+        n = chance.randint(1, 7)
+        places = list(range(n))
+        if n > 1 and chance.randrange(3) == 0:
+            places.remove(chance.choice(places))
+        many = chance.randint(0, most_ties)
+        yield (n, [(chance.choice(places), chance.choice(places)) for _ in range(many)])
 
 
 @contextmanager

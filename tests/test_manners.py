@@ -3,7 +3,12 @@
 import copy
 import unittest
 
+from tierounds.counted import count_rounds, paper_of, paper_says
 from tierounds.errors import TieError
+from tierounds.lastties import first_of_tree, how_far_by, last_ties, orders_of, round_by_orders, rounds_of_tree
+from tierounds.numbered import count_begun, next_round, next_ties, number_of, round_by
+from tierounds.trees import (
+    all_trees, count_trees, first_tree, is_tree, number_of_tree, table_of, tree_by, trees_with)
 from tierounds.webs import is_round, is_web, places_of, ties_from, ties_to
 from tierounds.whether import first_round, has_round, last_round, shows_none, why_none
 
@@ -11,6 +16,10 @@ ROUND = (4, [(0, 1), (1, 0), (1, 1), (0, 1), (1, 2), (2, 0)])
 APART = (4, [(0, 1), (2, 3), (1, 0), (3, 2)])
 UNEVEN = (2, [(0, 1)])
 BARE = (3, [])
+TOUR = [0, 2, 1, 3, 4, 5]
+ORDERS = {0: [0, 3], 1: [2, 1, 4], 2: [5]}
+PAPER = [[[2, -1], [0, 1]], [[2]]]
+MANY_TREES = (4, [(1, 0), (2, 0), (3, 0)] * 4)
 
 CALLS = [
     (is_web, ROUND), (is_web, [1, []]),
@@ -22,28 +31,88 @@ CALLS = [
     (why_none, APART), (why_none, UNEVEN), (why_none, ROUND),
     (first_round, ROUND), (first_round, BARE), (first_round, APART),
     (last_round, ROUND), (last_round, BARE), (last_round, UNEVEN),
+    (is_tree, ROUND, 0, [1, 5]), (is_tree, ROUND, 0, [5, 1]), (is_tree, BARE, 2, []),
+    (first_tree, ROUND, 0), (first_tree, BARE, 1), (first_tree, APART, 0), (first_tree, MANY_TREES, 0),
+    (all_trees, ROUND, 0), (all_trees, BARE, 1), (all_trees, APART, 0),
+    (count_trees, ROUND, 1), (count_trees, APART, 1), (count_trees, BARE, 1), (trees_with, ROUND, 0, 1),
+    (tree_by, ROUND, 0, 1), (tree_by, BARE, 0, 0), (number_of_tree, ROUND, 0, [4, 5]), (number_of_tree, BARE, 0, []),
+    (table_of, ROUND, 0), (table_of, ROUND, 3), (table_of, BARE, 0), (table_of, (3, [(0, 0), (1, 1), (2, 2)]), 0),
+    (count_rounds, ROUND), (count_rounds, APART), (count_rounds, BARE),
+    (paper_says, ROUND, 0, PAPER), (paper_says, ROUND, 1, PAPER), (paper_says, (2, [(1, 1)]), 1, []),
+    (paper_of, ROUND, 0), (paper_of, ROUND, 2), (paper_of, (2, [(1, 1)]), 1),
+    (count_begun, ROUND, [0, 1]), (count_begun, ROUND, []), (count_begun, APART, [0]), (count_begun, BARE, []),
+    (next_ties, ROUND, [0]), (next_ties, ROUND, []), (next_ties, ROUND, TOUR), (next_ties, APART, [0]),
+    (next_ties, BARE, []), (round_by, ROUND, 0), (round_by, ROUND, 2), (round_by, BARE, 0),
+    (number_of, ROUND, TOUR), (number_of, BARE, []),
+    (next_round, ROUND, [0, 1, 3, 2, 4, 5]), (next_round, ROUND, TOUR), (next_round, BARE, []),
+    (orders_of, ROUND, TOUR), (orders_of, BARE, []), (last_ties, ROUND, TOUR), (last_ties, BARE, []),
+    (how_far_by, ROUND, ORDERS), (how_far_by, ROUND, {False: [0, 3], True: [1, 4, 2], 2: [5]}), (how_far_by, BARE, {}),
+    (round_by_orders, ROUND, ORDERS), (round_by_orders, ROUND, {0: [0, 3], 1: [1, 4, 2], 2: [5]}),
+    (round_by_orders, BARE, {}), (rounds_of_tree, ROUND, [4, 5]), (rounds_of_tree, BARE, []),
+    (first_of_tree, ROUND, [4, 5]), (first_of_tree, BARE, []), (first_of_tree, (2, [(0, 1), (1, 0), (1, 0)]), [1]),
 ]
 REFUSED = [
     (ties_from, ROUND, [0]), (ties_to, ROUND, 4), (ties_from, [1, []], 0), (is_round, (1, [[0, 0]]), [0]),
     (places_of, ROUND, [0, 1, 2]), (places_of, (1, [[0, 0]]), [0]), (has_round, (8, [])), (why_none, (2, [(0, 2)])),
     (shows_none, (0, []), ("apart", [0])), (first_round, (1, [(0, 0)] * 21)), (last_round, [1, [(0, 0)]]),
+    (is_tree, ROUND, [0], [1, 5]), (is_tree, [1, []], 0, []), (first_tree, ROUND, 4), (all_trees, MANY_TREES, 0),
+    (count_trees, ROUND, [1]), (trees_with, ROUND, 0, [1]), (tree_by, ROUND, 0, 2), (tree_by, ROUND, 0, [0]),
+    (number_of_tree, ROUND, 0, [5, 1]), (number_of_tree, ROUND, 1, [4, 5]), (table_of, ROUND, {}),
+    (count_rounds, [1, []]), (paper_says, APART, 0, PAPER), (paper_says, ROUND, 3, PAPER), (paper_of, ROUND, [0]),
+    (paper_of, BARE, 0), (count_begun, ROUND, [1, 0]), (next_ties, ROUND, [0, 0]), (round_by, ROUND, [0]),
+    (round_by, APART, 0), (number_of, ROUND, [5, 4, 3]), (next_round, ROUND, TOUR[::-1]), (orders_of, ROUND, [0]),
+    (last_ties, ROUND, [[0]]), (how_far_by, ROUND, {0: [3, 0], 1: [2, 1, 4], 2: [5]}), (how_far_by, ROUND, [ORDERS]),
+    (round_by_orders, ROUND, {0: [0, 3], 1: [2, 1, 4], 2: []}), (round_by_orders, BARE, {0: []}),
+    (rounds_of_tree, ROUND, [5, 4]), (first_of_tree, ROUND, [0, 5]), (first_of_tree, BARE, [0]),
 ]
+# Each function with the names of its arguments.
+NAMES = {
+    is_web: ("thing",), ties_from: ("web", "place"), ties_to: ("web", "place"), is_round: ("web", "thing"),
+    places_of: ("web", "tour"), has_round: ("web",), shows_none: ("web", "thing"), why_none: ("web",),
+    first_round: ("web",), last_round: ("web",),
+    is_tree: ("web", "place", "thing"), first_tree: ("web", "place"), all_trees: ("web", "place"),
+    count_trees: ("web", "place"), trees_with: ("web", "place", "tie"), tree_by: ("web", "place", "number"),
+    number_of_tree: ("web", "place", "tree"), table_of: ("web", "place"),
+    count_rounds: ("web",), paper_says: ("web", "place", "thing"), paper_of: ("web", "place"),
+    count_begun: ("web", "begin"), next_ties: ("web", "begin"), round_by: ("web", "number"), number_of: ("web", "tour"),
+    next_round: ("web", "tour"),
+    orders_of: ("web", "tour"), last_ties: ("web", "tour"), how_far_by: ("web", "orders"),
+    round_by_orders: ("web", "orders"), rounds_of_tree: ("web", "tree"), first_of_tree: ("web", "tree"),
+}
+TRUTHS = (is_web, is_round, has_round, shows_none, is_tree)
+
+
+def parts_of(thing):
+    """What is straight in a list, a tuple or a dict."""
+    if isinstance(thing, dict):
+        return [*thing.keys(), *thing.values()]
+    return list(thing) if isinstance(thing, (list, tuple)) else []
 
 
 def lists_in(thing):
-    """All lists that are in what is told, itself counted."""
-    found = [thing] if isinstance(thing, list) else []
-    if isinstance(thing, (list, tuple)):
-        for part in thing:
-            found += lists_in(part)
+    """All lists and dicts that are in what is told, itself counted."""
+    found = [thing] if isinstance(thing, (list, dict)) else []
+    for part in parts_of(thing):
+        found += lists_in(part)
     return found
 
 
+def numbers_in(thing):
+    """All that is in what is told and is no list, tuple or dict."""
+    if not isinstance(thing, (list, tuple, dict)):
+        return [thing]
+    return [number for part in parts_of(thing) for number in numbers_in(part)]
+
+
 def spoil(thing):
-    """Change all lists in it."""
+    """Change all lists and dicts in it."""
     for part in lists_in(thing):
-        part.append("spoilt")
-        part.reverse()
+        if isinstance(part, dict):
+            part["spoilt"] = 0
+            part.pop(0, None)
+        else:
+            part.append("spoilt")
+            part.reverse()
 
 
 class Manners(unittest.TestCase):
@@ -92,19 +161,19 @@ class Manners(unittest.TestCase):
     def test_truths_are_truths_and_numbers_are_no_truths(self):
         for function, *arguments in CALLS:
             told = function(*arguments)
-            if function in (is_web, is_round, has_round, shows_none):
+            if function in TRUTHS:
                 self.assertIs(type(told), bool, function)
-            for part in lists_in(told):
-                self.assertEqual([type(number) for number in part], [int] * len(part), function)
+            else:
+                kinds = {type(number) for number in numbers_in(told)}
+                self.assertLessEqual(kinds, {int, type(None)} | ({str} if function == why_none else set()), function)
 
     def test_arguments_are_handed_in_by_their_places(self):
-        names = {
-            is_web: ("thing",), ties_from: ("web", "place"), ties_to: ("web", "place"), is_round: ("web", "thing"),
-            places_of: ("web", "tour"), has_round: ("web",), shows_none: ("web", "thing"), why_none: ("web",),
-            first_round: ("web",), last_round: ("web",),
-        }
-        for function, expected in names.items():
+        for function, expected in NAMES.items():
             self.assertEqual(function.__code__.co_varnames[:function.__code__.co_argcount], expected)
+
+    def test_each_function_is_called_here_and_refuses_here(self):
+        self.assertEqual({function for function, *arguments in CALLS}, set(NAMES))
+        self.assertEqual({function for function, *arguments in REFUSED}, set(NAMES) - {is_web})
 
 
 if __name__ == "__main__":

@@ -3,31 +3,13 @@
 import itertools
 import unittest
 
-from samples import all_rounds, mixed_webs, refused, small_webs, strangers
+from samples import all_rounds, mixed_webs, no_webs, refused, small_webs, strangers
 from tierounds.errors import NoPlace, NoRound, NoWeb
 from tierounds.webs import is_round, is_web, places_of, ties_from, ties_to
 
 TRIANGLE = (3, [(0, 1), (1, 2), (2, 0)])
 # Ties 0 and 3 are alike, tie 2 is a loop, place 3 is not used.
 MIXED = (4, [(0, 1), (1, 0), (1, 1), (0, 1), (1, 2), (2, 0)])
-
-
-def no_webs():
-    """Things that are close to webs and are none."""
-    return [
-        (0, []), (8, []), (-1, []), (-7, []), (10 ** 39, []), (True, []), (False, []), (None, []), ("1", []),
-        (b"1", []), ([1], []), ((1,), []),
-        (1, ()), (1, ((0, 0),)), (1, None), (1, {}), (1, {(0, 0): 1}), (1, ""), (1, 0), (1, set()), (1, {(0, 0)}),
-        [1, []], [1, [(0, 0)]], (1,), ([],), (1, [], []), (1, [], None), ([], 1), {0: 1, 1: []}, {1: [], 2: []},
-        (1, [(0, 0)] * 21), (7, [(0, 6)] * 21), (1, [(0, 0)] * 40), (8, [(0, 7)]),
-        (1, [(0, 1)]), (1, [(1, 0)]), (2, [(0, 2)]), (2, [(2, 0)]), (7, [(0, 7)]), (7, [(7, 0)]), (2, [(0, -1)]),
-        (2, [(-1, 0)]), (2, [(0, 1), (1, 2)]), (2, [(0, 1)] * 19 + [(0, 2)]), (2, [(0, 10 ** 39)]),
-        (2, [(0, True)]), (2, [(True, 0)]), (2, [(False, 1)]), (2, [(1, False)]), (2, [(0, 1), (True, False)]),
-        (2, [[0, 1]]), (2, [(0, 1), [1, 0]]), (2, [()]), (2, [(0,)]), (2, [(0, 1, 1)]), (2, [(0, 1), (0, 1, 0)]),
-        (2, [None]), (2, ["01"]), (2, [b"\x00\x01"]), (2, [{0: 1, 1: 0}]), (2, [{0, 1}]), (2, [0, 1]), (2, [3]),
-        (2, [("0", "1")]), (2, [(None, 0)]), (2, [(0, None)]), (2, [((0,), 1)]), (2, [(0, [1])]), (2, [(b"0", 1)]),
-        (2, [(0, {})]), (1, [[(0, 0)]]),
-    ]
 
 
 class IsWeb(unittest.TestCase):

@@ -3,7 +3,7 @@
 import itertools
 import unittest
 
-from samples import all_rounds, mixed_webs, refused, small_webs, strangers, within_seconds
+from samples import all_rounds, mixed_webs, no_webs, refused, small_webs, strangers, within_seconds
 from tierounds.errors import NoWeb
 from tierounds.webs import is_round
 from tierounds.whether import first_round, has_round, last_round, shows_none, why_none
@@ -286,8 +286,7 @@ class FirstAndLast(unittest.TestCase):
 
 class NoWebFirst(unittest.TestCase):
     def test_no_web_is_refused(self):
-        wrong = [(0, []), (8, []), (1, [(0, 1)]), (1, ()), [1, []], (True, []), (1, [(0, 0)] * 21), (2, [[0, 1]])]
-        for web in wrong + strangers():
+        for web in no_webs() + strangers():
             for function in (has_round, why_none, first_round, last_round):
                 refused(self, NoWeb, function, web)
             for thing in (("uneven", 0), ("apart", [0]), None, 0):

@@ -1,11 +1,13 @@
 """Whether a web has a round, what shows that it has none, and the first round and the last one."""
 
-from tierounds.webs import check_web, is_place, ties_from, ties_to
+from tierounds.webs import are_rising_below, check_web, home_of, is_place, without
 
 
 def is_uneven(web, place):
     """Whether other than just as many ties lead from the place as lead to it."""
-    return len(ties_from(web, place)) != len(ties_to(web, place))
+    begun = [a for a, b in web[1] if a == place]
+    ended = [b for a, b in web[1] if b == place]
+    return len(begun) != len(ended)
 
 
 def least_uneven(web):
@@ -43,21 +45,14 @@ def why_none(web):
     if place is not None:
         return ("uneven", place)
     ties = web[1]
-    if not ties or all_hang_on(ties, ties[0][0]):
+    if all_hang_on(ties, home_of(web)):
         return None
-    return ("apart", hang_together(ties, ties[0][0]))
+    return ("apart", hang_together(ties, home_of(web)))
 
 
 def has_round(web):
     """Whether the web has a round."""
     return why_none(web) is None
-
-
-def are_rising_places(web, thing):
-    """Whether it is a rising list of places of the web, each once."""
-    if not isinstance(thing, list) or not all(is_place(web, place) for place in thing):
-        return False
-    return all(thing[at - 1] < thing[at] for at in range(1, len(thing)))
 
 
 def part_ties(ties, places):
@@ -77,13 +72,8 @@ def shows_none(web, thing):
     if word == "uneven":
         return is_place(web, shown) and is_uneven(web, shown)
     if word == "apart":
-        return are_rising_places(web, shown) and part_ties(web[1], shown)
+        return are_rising_below(shown, web[0]) and part_ties(web[1], shown)
     return False
-
-
-def without(numbers, number):
-    """The numbers in their order, but for this one."""
-    return [other for other in numbers if other != number]
 
 
 def next_wished(ties, place, left):
