@@ -90,6 +90,11 @@ def used(web):
     return sorted({end for tie in web[1] for end in tie})
 
 
+def leading(web, place):
+    """The numbers of the ties that lead from the place, rising."""
+    return [number for number, tie in enumerate(web[1]) if tie[0] == place]
+
+
 def beginnings(web):
     """All beginnings, sorted, whether or not a round begins so: walked from each to those a tie longer."""
     ties = web[1]
@@ -131,8 +136,8 @@ def choices_of_ties(web):
 
 def trees_listed(web, root):
     """All trees, sorted: each choice of one tie from each used place but the root is tried."""
-    leading = [[k for k, tie in enumerate(web[1]) if tie[0] == place] for place in used(web) if place != root]
-    choices = [sorted(choice) for choice in itertools.product(*leading)]
+    ties_of_each = [leading(web, place) for place in used(web) if place != root]
+    choices = [sorted(choice) for choice in itertools.product(*ties_of_each)]
     return sorted(choice for choice in choices if is_tree_by_words(web, root, choice))
 
 

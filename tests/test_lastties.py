@@ -6,7 +6,7 @@ import unittest
 from math import factorial
 
 from samples import (
-    all_rounds, any_webs, choices_of_ties, mixed_webs, no_webs, refused, rounds_walked, small_webs, strangers,
+    all_rounds, any_webs, choices_of_ties, leading, mixed_webs, no_webs, refused, rounds_walked, small_webs, strangers,
     trees_listed, used, within_seconds)
 from tierounds.counted import count_rounds
 from tierounds.errors import NoOrders, NoRound, NoTree, NoWeb
@@ -22,10 +22,6 @@ MIXED_ORDERS = {0: [0, 3], 1: [2, 1, 4], 2: [5]}
 UNEVEN = (3, [(0, 1), (1, 2), (0, 2)])
 APART = (4, [(0, 1), (1, 0), (2, 3), (3, 2)])
 FIVE = (5, [(a, b) for a in range(5) for b in range(5) if a != b])
-
-
-def leading(web, place):
-    return [number for number, tie in enumerate(web[1]) if tie[0] == place]
 
 
 def all_orders(web):

@@ -7,8 +7,11 @@ from tierounds.counted import count_rounds, paper_of, paper_says
 from tierounds.errors import TieError
 from tierounds.lastties import first_of_tree, how_far_by, last_ties, orders_of, round_by_orders, rounds_of_tree
 from tierounds.numbered import count_begun, next_round, next_ties, number_of, round_by
+from tierounds.rolls import drawn, rolls_of, rolls_wanted
 from tierounds.trees import (
     all_trees, count_trees, first_tree, is_tree, number_of_tree, table_of, tree_by, trees_with)
+from tierounds.turns import all_turns, fewest_turns, is_turn, turned, turns_between
+from tierounds.ways import count_ways, ends_of_ways, first_way, is_way, number_of_way, way_by
 from tierounds.webs import is_round, is_web, places_of, ties_from, ties_to
 from tierounds.whether import first_round, has_round, last_round, shows_none, why_none
 
@@ -19,6 +22,9 @@ BARE = (3, [])
 TOUR = [0, 2, 1, 3, 4, 5]
 ORDERS = {0: [0, 3], 1: [2, 1, 4], 2: [5]}
 PAPER = [[[2, -1], [0, 1]], [[2]]]
+OPEN = (4, [(0, 1), (1, 0), (1, 1), (0, 1), (1, 2)])
+LOOPS = (1, [(0, 0)] * 4)
+TWENTY = (1, [(0, 0)] * 20)
 MANY_TREES = (4, [(1, 0), (2, 0), (3, 0)] * 4)
 
 CALLS = [
@@ -50,6 +56,17 @@ CALLS = [
     (round_by_orders, ROUND, ORDERS), (round_by_orders, ROUND, {0: [0, 3], 1: [1, 4, 2], 2: [5]}),
     (round_by_orders, BARE, {}), (rounds_of_tree, ROUND, [4, 5]), (rounds_of_tree, BARE, []),
     (first_of_tree, ROUND, [4, 5]), (first_of_tree, BARE, []), (first_of_tree, (2, [(0, 1), (1, 0), (1, 0)]), [1]),
+    (is_turn, ROUND, TOUR, (1, 3, 4, 6)), (is_turn, ROUND, TOUR, [1, 3, 4, 6]), (is_turn, BARE, [], ()),
+    (all_turns, ROUND, TOUR), (all_turns, LOOPS, [0, 3, 1, 2]), (all_turns, BARE, []),
+    (turned, ROUND, TOUR, (1, 3, 4, 6)), (turned, LOOPS, [0, 1, 2, 3], (1, 2, 2, 3)),
+    (turns_between, ROUND, TOUR, [0, 4, 5, 3, 2, 1]), (turns_between, ROUND, TOUR, TOUR), (turns_between, BARE, [], []),
+    (fewest_turns, ROUND, TOUR, [0, 4, 5, 3, 2, 1]), (fewest_turns, ROUND, TOUR, TOUR), (fewest_turns, BARE, [], []),
+    (rolls_wanted, ROUND), (rolls_wanted, LOOPS), (drawn, ROUND, [1, 1]), (drawn, LOOPS, [0, 2, 1]),
+    (rolls_of, ROUND, TOUR), (rolls_of, LOOPS, [0, 3, 1, 2]),
+    (is_way, OPEN, [0, 1, 3, 2, 4]), (is_way, OPEN, [4, 2]), (is_way, BARE, []),
+    (ends_of_ways, OPEN), (ends_of_ways, ROUND), (count_ways, OPEN), (count_ways, BARE),
+    (first_way, OPEN), (first_way, ROUND), (way_by, OPEN, 0), (way_by, OPEN, 3),
+    (number_of_way, OPEN, [3, 1, 0, 2, 4]),
 ]
 REFUSED = [
     (ties_from, ROUND, [0]), (ties_to, ROUND, 4), (ties_from, [1, []], 0), (is_round, (1, [[0, 0]]), [0]),
@@ -64,6 +81,13 @@ REFUSED = [
     (last_ties, ROUND, [[0]]), (how_far_by, ROUND, {0: [3, 0], 1: [2, 1, 4], 2: [5]}), (how_far_by, ROUND, [ORDERS]),
     (round_by_orders, ROUND, {0: [0, 3], 1: [2, 1, 4], 2: []}), (round_by_orders, BARE, {0: []}),
     (rounds_of_tree, ROUND, [5, 4]), (first_of_tree, ROUND, [0, 5]), (first_of_tree, BARE, [0]),
+    (is_turn, ROUND, [0, 1], (1, 2, 2, 4)), (all_turns, ROUND, [TOUR]), (all_turns, TWENTY, list(range(20))),
+    (turned, ROUND, TOUR, [1, 3, 4, 6]), (turned, ROUND, [TOUR], (1, 3, 4, 6)), (turns_between, ROUND, TOUR, TOUR[:-1]),
+    (turns_between, ROUND, TOUR[::-1], TOUR), (fewest_turns, ROUND, TOUR, [[]]),
+    (fewest_turns, TWENTY, list(range(20)), list(range(20))), (rolls_wanted, BARE), (rolls_wanted, APART),
+    (drawn, ROUND, [2, 0]), (drawn, ROUND, [[0], 0]), (drawn, BARE, []), (rolls_of, ROUND, TOUR[1:]), (rolls_of, BARE, []),
+    (is_way, TWENTY, [0]), (ends_of_ways, TWENTY), (count_ways, [1, []]), (count_ways, TWENTY), (first_way, TWENTY),
+    (way_by, OPEN, 4), (way_by, OPEN, [0]), (number_of_way, OPEN, [[0]]), (number_of_way, TWENTY, list(range(20))),
 ]
 # Each function with the names of its arguments.
 NAMES = {
@@ -78,8 +102,13 @@ NAMES = {
     next_round: ("web", "tour"),
     orders_of: ("web", "tour"), last_ties: ("web", "tour"), how_far_by: ("web", "orders"),
     round_by_orders: ("web", "orders"), rounds_of_tree: ("web", "tree"), first_of_tree: ("web", "tree"),
+    is_turn: ("web", "tour", "thing"), all_turns: ("web", "tour"), turned: ("web", "tour", "turn"),
+    turns_between: ("web", "one", "other"), fewest_turns: ("web", "one", "other"),
+    rolls_wanted: ("web",), drawn: ("web", "rolls"), rolls_of: ("web", "tour"),
+    is_way: ("web", "thing"), ends_of_ways: ("web",), count_ways: ("web",), first_way: ("web",),
+    way_by: ("web", "number"), number_of_way: ("web", "way"),
 }
-TRUTHS = (is_web, is_round, has_round, shows_none, is_tree)
+TRUTHS = (is_web, is_round, has_round, shows_none, is_tree, is_turn, is_way)
 
 
 def parts_of(thing):

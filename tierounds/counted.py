@@ -1,9 +1,9 @@
 """How many rounds a web has, and papers that show how many trees lead to a place."""
 
-from tierounds.errors import NoPlace, NoRound
+from tierounds.errors import NoPlace
 from tierounds.trees import count_trees, next_table, table_of
 from tierounds.webs import home_of, is_place, is_whole, used_places
-from tierounds.whether import has_round
+from tierounds.whether import check_round_of_ties, has_round
 
 
 def orders_behind(web):
@@ -27,8 +27,7 @@ def count_rounds(web):
 
 def check_for_paper(web, place):
     """Refuse a web that has no round or no tie, then what is no used place of it."""
-    if not has_round(web) or not web[1]:
-        raise NoRound("the web has no round of ties")
+    check_round_of_ties(web)
     if not is_place(web, place) or place not in used_places(web):
         raise NoPlace("this is no used place of the web")
 

@@ -1,13 +1,19 @@
 """Whether a web has a round, what shows that it has none, and the first round and the last one."""
 
+from tierounds.errors import NoRound
 from tierounds.webs import are_rising_below, check_web, home_of, is_place, without
+
+
+def surplus(ties, place):
+    """How many more of the ties lead from the place than lead to it."""
+    begun = [a for a, b in ties if a == place]
+    ended = [b for a, b in ties if b == place]
+    return len(begun) - len(ended)
 
 
 def is_uneven(web, place):
     """Whether other than just as many ties lead from the place as lead to it."""
-    begun = [a for a, b in web[1] if a == place]
-    ended = [b for a, b in web[1] if b == place]
-    return len(begun) != len(ended)
+    return surplus(web[1], place) != 0
 
 
 def least_uneven(web):
@@ -53,6 +59,12 @@ def why_none(web):
 def has_round(web):
     """Whether the web has a round."""
     return why_none(web) is None
+
+
+def check_round_of_ties(web):
+    """Refuse a web that has no round, and one that has no tie."""
+    if not has_round(web) or not web[1]:
+        raise NoRound("the web has no round of ties")
 
 
 def part_ties(ties, places):
