@@ -5,9 +5,13 @@ import unittest
 
 from tierounds.counted import count_rounds, paper_of, paper_says
 from tierounds.errors import TieError
+from tierounds.following import count_kept, first_kept, how_often_behind, is_kept, ties_behind
 from tierounds.lastties import first_of_tree, how_far_by, last_ties, orders_of, round_by_orders, rounds_of_tree
+from tierounds.more import fewest_more, ties_more
 from tierounds.numbered import count_begun, next_round, next_ties, number_of, round_by
 from tierounds.rolls import drawn, rolls_of, rolls_wanted
+from tierounds.texts import (
+    list_text, read_list, read_rules, read_turn, read_web, rules_text, turn_text, web_text)
 from tierounds.trees import (
     all_trees, count_trees, first_tree, is_tree, number_of_tree, table_of, tree_by, trees_with)
 from tierounds.turns import all_turns, fewest_turns, is_turn, turned, turns_between
@@ -25,6 +29,7 @@ PAPER = [[[2, -1], [0, 1]], [[2]]]
 OPEN = (4, [(0, 1), (1, 0), (1, 1), (0, 1), (1, 2)])
 LOOPS = (1, [(0, 0)] * 4)
 TWENTY = (1, [(0, 0)] * 20)
+RULES = ([(0, 2)], [(1, 3), (4, 0)])
 MANY_TREES = (4, [(1, 0), (2, 0), (3, 0)] * 4)
 
 CALLS = [
@@ -67,6 +72,16 @@ CALLS = [
     (ends_of_ways, OPEN), (ends_of_ways, ROUND), (count_ways, OPEN), (count_ways, BARE),
     (first_way, OPEN), (first_way, ROUND), (way_by, OPEN, 0), (way_by, OPEN, 3),
     (number_of_way, OPEN, [3, 1, 0, 2, 4]),
+    (fewest_more, APART), (fewest_more, ROUND), (fewest_more, BARE),
+    (ties_more, APART), (ties_more, OPEN), (ties_more, ROUND), (ties_more, BARE),
+    (how_often_behind, ROUND, 0, 2), (how_often_behind, APART, 0, 2), (ties_behind, ROUND, 0), (ties_behind, APART, 0),
+    (count_kept, ROUND, RULES), (count_kept, ROUND, ([], [])), (count_kept, BARE, ([], [])),
+    (first_kept, ROUND, RULES), (first_kept, ROUND, ([(0, 1)], [(0, 1)])), (first_kept, BARE, ([], [])),
+    (is_kept, ROUND, RULES, TOUR), (is_kept, ROUND, RULES, [TOUR]), (is_kept, BARE, ([], []), []),
+    (web_text, ROUND), (web_text, BARE), (list_text, TOUR), (list_text, []), (turn_text, (1, 3, 4, 6)),
+    (rules_text, RULES), (rules_text, ([], [])),
+    (read_web, "3 0>1 1>0"), (read_web, "1"), (read_list, "0 2 1"), (read_list, "-"), (read_turn, "1-3 4-6"),
+    (read_rules, "0+2 1!3"), (read_rules, "-"),
 ]
 REFUSED = [
     (ties_from, ROUND, [0]), (ties_to, ROUND, 4), (ties_from, [1, []], 0), (is_round, (1, [[0, 0]]), [0]),
@@ -88,6 +103,12 @@ REFUSED = [
     (drawn, ROUND, [2, 0]), (drawn, ROUND, [[0], 0]), (drawn, BARE, []), (rolls_of, ROUND, TOUR[1:]), (rolls_of, BARE, []),
     (is_way, TWENTY, [0]), (ends_of_ways, TWENTY), (count_ways, [1, []]), (count_ways, TWENTY), (first_way, TWENTY),
     (way_by, OPEN, 4), (way_by, OPEN, [0]), (number_of_way, OPEN, [[0]]), (number_of_way, TWENTY, list(range(20))),
+    (fewest_more, TWENTY), (fewest_more, [1, []]), (ties_more, TWENTY), (how_often_behind, ROUND, [0], 0),
+    (how_often_behind, ROUND, 0, 6), (ties_behind, ROUND, [0]), (count_kept, ROUND, list(RULES)),
+    (count_kept, TWENTY, RULES), (first_kept, ROUND, ([(0, 6)], [])), (is_kept, ROUND, ([[0, 1]], []), TOUR),
+    (web_text, [1, []]), (list_text, [0, -1]), (list_text, [[0]]), (turn_text, [1, 3, 4, 6]), (rules_text, list(RULES)),
+    (read_web, "8"), (read_web, ["1"]), (read_list, "00"), (read_list, [0]), (read_turn, "1-3"), (read_turn, [1, 3, 4, 6]),
+    (read_rules, "0!1 0+1"), (read_rules, ([], [])),
 ]
 # Each function with the names of its arguments.
 NAMES = {
@@ -107,8 +128,14 @@ NAMES = {
     rolls_wanted: ("web",), drawn: ("web", "rolls"), rolls_of: ("web", "tour"),
     is_way: ("web", "thing"), ends_of_ways: ("web",), count_ways: ("web",), first_way: ("web",),
     way_by: ("web", "number"), number_of_way: ("web", "way"),
+    fewest_more: ("web",), ties_more: ("web",),
+    how_often_behind: ("web", "tie", "other"), ties_behind: ("web", "tie"), count_kept: ("web", "rules"),
+    first_kept: ("web", "rules"), is_kept: ("web", "rules", "thing"),
+    web_text: ("web",), list_text: ("numbers",), turn_text: ("turn",), rules_text: ("rules",), read_web: ("text",),
+    read_list: ("text",), read_turn: ("text",), read_rules: ("text",),
 }
-TRUTHS = (is_web, is_round, has_round, shows_none, is_tree, is_turn, is_way)
+TRUTHS = (is_web, is_round, has_round, shows_none, is_tree, is_turn, is_way, is_kept)
+TEXTS = (web_text, list_text, turn_text, rules_text)
 
 
 def parts_of(thing):
@@ -187,11 +214,13 @@ class Manners(unittest.TestCase):
             self.assertEqual(told, kept, function)
             self.assertEqual(function(*arguments), kept, function)
 
-    def test_truths_are_truths_and_numbers_are_no_truths(self):
+    def test_truths_are_truths_texts_are_texts_and_numbers_are_no_truths(self):
         for function, *arguments in CALLS:
             told = function(*arguments)
             if function in TRUTHS:
                 self.assertIs(type(told), bool, function)
+            elif function in TEXTS:
+                self.assertIs(type(told), str, function)
             else:
                 kinds = {type(number) for number in numbers_in(told)}
                 self.assertLessEqual(kinds, {int, type(None)} | ({str} if function == why_none else set()), function)

@@ -11,9 +11,14 @@ def is_whole(thing):
     return isinstance(thing, int) and not isinstance(thing, bool)
 
 
+def is_from_0(thing):
+    """Whether it is a whole number from 0 on."""
+    return is_whole(thing) and thing >= 0
+
+
 def is_below(thing, limit):
     """Whether it is a whole number from 0 and below the limit."""
-    return is_whole(thing) and 0 <= thing < limit
+    return is_from_0(thing) and thing < limit
 
 
 def is_pair_below(thing, limit):
